@@ -1,0 +1,1 @@
+"""Livingclock: a clock whose wheels are exchanged while it runs."""

@@ -1,0 +1,100 @@
+"""In the midst of the work: the earliest right rest, what is due, and what may be done or left now."""
+
+from livingclock.checks import check_tick, is_between, is_tuple_of
+from livingclock.clocks import all_exchanges, check_clock, first_from, first_gap, least_needed, touch_phases
+from livingclock.earliest import rows_of, settled
+from livingclock.errors import BadStanding
+
+
+def rest(clock, tick, standing):
+    """Return the earliest right rest from a tick on, as a plan of the exchanges still to be done; None without one."""
+    check_moment(clock, tick, standing)
+    firsts = {exchange: first_gap(clock, exchange[0], tick) for exchange in undone(clock, standing)}
+    numbers = timely(clock, tick, standing, firsts)
+    if numbers is None:
+        return None
+    return rows_of(clock, numbers)
+
+
+def due(clock, tick, standing):
+    """Return the ascending tuple of pairs: an exchange that an edition that stands needs, the tick it is due at."""
+    check_moment(clock, tick, standing)
+    return tuple(due_pairs(clock, tick, standing))
+
+
+def safe(clock, tick, standing):
+    """Return the ascending tuple of the wheels that may be exchanged at this tick so that there is a rest."""
+    check_moment(clock, tick, standing)
+    return tuple([wheel for wheel in range(len(standing)) if is_safe(clock, tick, standing, wheel)])
+
+
+def may_wait(clock, tick, standing):
+    """Tell whether there is a rest without any exchange at this tick."""
+    check_moment(clock, tick, standing)
+    firsts = {exchange: first_gap(clock, exchange[0], tick + 1) for exchange in undone(clock, standing)}
+    return timely(clock, tick, standing, firsts) is not None
+
+
+def check_moment(clock, tick, standing):
+    """Raise the error of the first argument that is no clock, no tick or no standing."""
+    check_clock(clock)
+    check_tick(tick, 0)
+    if not is_standing(clock, standing):
+        raise BadStanding("not a tuple of an edition for each wheel")
+
+
+def is_standing(clock, value):
+    """Tell whether a value is a standing of the clock."""
+    if not is_tuple_of(value, len(clock[1])):
+        return False
+    return all([is_between(edition, 0, last) for edition, last in zip(value, clock[1])])
+
+
+def undone(clock, standing):
+    """Return the ascending list of the exchanges that are still to be done."""
+    return [exchange for exchange in all_exchanges(clock) if exchange[1] > standing[exchange[0]]]
+
+
+def due_pairs(clock, tick, standing):
+    """Return what due does, as a list, for arguments that are known to be right."""
+    pairs = []
+    for exchange in undone(clock, standing):
+        touches = touches_needing(clock, tick, standing, exchange)
+        if touches:
+            pairs.append((exchange, min(touches)))
+    return pairs
+
+
+def touches_needing(clock, tick, standing, exchange):
+    """Return the list of the next touches of the exchange's wheel with each wheel whose edition needs the exchange."""
+    wheel, edition = exchange
+    touches = []
+    for other, stands in enumerate(standing):
+        phases = touch_phases(clock, wheel, other)
+        if phases and least_needed(clock, other, stands, wheel) >= edition:
+            touches.append(first_from(clock, phases, tick))
+    return touches
+
+
+def timely(clock, tick, standing, firsts):
+    """Return the least numbers from the first ones on, None if there are none or one is later than it is due."""
+    numbers = settled(clock, firsts)
+    if numbers is None:
+        return None
+    # The least numbers are at no exchange later than others: if they are too late, all are.
+    if any(numbers[exchange] > latest for exchange, latest in due_pairs(clock, tick, standing)):
+        return None
+    return numbers
+
+
+def is_safe(clock, tick, standing, wheel):
+    """Tell whether a wheel may be exchanged by one edition at this tick so that there is a rest."""
+    if standing[wheel] == clock[1][wheel] or tick % clock[0] not in clock[3][wheel]:
+        return False
+    after = standing[:wheel] + (standing[wheel] + 1,) + standing[wheel + 1:]
+    firsts = {}
+    for exchange in undone(clock, after):
+        # The wheel itself is exchanged at this tick, so its next exchange comes later.
+        low = tick + 1 if exchange[0] == wheel else tick
+        firsts[exchange] = first_gap(clock, exchange[0], low)
+    return timely(clock, tick, after, firsts) is not None

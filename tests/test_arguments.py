@@ -1,0 +1,111 @@
+"""Point 1: any value for any argument, which error comes first, and that no argument is modified."""
+
+import copy
+import itertools
+
+from livingclock import clocks, earliest, middle, plans, pushes, rings, stairs
+from livingclock.errors import (
+    BadChoice, BadClock, BadEdition, BadExchange, BadNumber, BadPlan, BadRow, BadStanding, BadTick, BadWheel,
+)
+from tests.samples import JUNK, THREE, Case
+
+PLAN = ((6,), (4,), (2,))
+# Each function with right arguments and the error that each argument has for a value of another kind.
+CALLS = (
+    (clocks.exchanges, (THREE,), (BadClock,)),
+    (clocks.needed, (THREE, 0, 1, 2), (BadClock, BadWheel, BadEdition, BadWheel)),
+    (clocks.touching, (THREE, 7), (BadClock, BadTick)),
+    (plans.edition_at, (THREE, PLAN, 2, 3), (BadClock, BadPlan, BadWheel, BadTick)),
+    (plans.wrong_at, (THREE, PLAN, 3), (BadClock, BadPlan, BadTick)),
+    (plans.first_wrong, (THREE, PLAN), (BadClock, BadPlan)),
+    (plans.is_right, (THREE, PLAN), (BadClock, BadPlan)),
+    (plans.mixed, (THREE, PLAN, PLAN, False), (BadClock, BadPlan, BadPlan, BadChoice)),
+    (pushes.leaning, (THREE,), (BadClock,)),
+    (pushes.push, (THREE, (0, 1), (1, 1), -4), (BadClock, BadExchange, BadExchange, BadTick)),
+    (pushes.push_row, (THREE, (0, 1), (1, 1)), (BadClock, BadExchange, BadExchange)),
+    (stairs.row_at, ((0, 3, 3), -5), (BadRow, BadTick)),
+    (stairs.behind, ((0, 3, 3), (1, 1, 1)), (BadRow, BadRow)),
+    (stairs.times, ((0, 3, 3), 5), (BadRow, BadNumber)),
+    (stairs.is_below, ((0, 3, 3), (1, 1, 1)), (BadRow, BadRow)),
+    (stairs.pace, ((0, 3, 3),), (BadRow,)),
+    (earliest.earliest, (THREE,), (BadClock,)),
+    (earliest.why, (THREE, (0, 1)), (BadClock, BadExchange)),
+    (earliest.shows_why, (THREE, (0, 1), ()), (BadClock, BadExchange, None)),
+    (rings.ring, (THREE,), (BadClock,)),
+    (rings.shows_ring, (THREE, None), (BadClock, None)),
+    (rings.is_ring, (THREE, None), (BadClock, None)),
+    (middle.rest, (THREE, 4, (0, 0, 1)), (BadClock, BadTick, BadStanding)),
+    (middle.due, (THREE, 4, (0, 0, 1)), (BadClock, BadTick, BadStanding)),
+    (middle.safe, (THREE, 4, (0, 0, 1)), (BadClock, BadTick, BadStanding)),
+    (middle.may_wait, (THREE, 4, (0, 0, 1)), (BadClock, BadTick, BadStanding)),
+)
+# Values that are of the wrong kind for every argument there is.
+NEVER = (None, "", "three", [], [0], {}, {0: 1}, (None,), ((), []), ("0", 1), 10 ** 40, -10 ** 40)
+FIELDS = {BadClock: {"part": "clock"}, BadPlan: {"wheel": None}}
+
+
+class ArgumentsTest(Case):
+
+    def test_right_arguments(self):
+        for call, arguments, _ in CALLS:
+            call(*arguments)
+
+    def test_each_argument_by_itself(self):
+        for call, arguments, errors in CALLS:
+            for place, error in enumerate(errors):
+                for value in NEVER:
+                    given = arguments[:place] + (value,) + arguments[place + 1:]
+                    if error is None:
+                        self.assertIs(call(*given).__class__, bool)
+                    else:
+                        self.fails(error, call, *given, **FIELDS.get(error, {}))
+
+    def test_booleans_are_no_integers(self):
+        for call, arguments, errors in CALLS:
+            for place, error in enumerate(errors):
+                if isinstance(arguments[place], int) and error is not BadChoice:
+                    for value in (True, False):
+                        self.fails(error, call, *arguments[:place], value, *arguments[place + 1:])
+
+    def test_the_leftmost_error_comes_first(self):
+        for call, arguments, errors in CALLS:
+            for wrong in itertools.product((True, False), repeat=len(errors)):
+                places = [place for place, told in enumerate(wrong) if told and errors[place] is not None]
+                if places:
+                    given = tuple(None if told else value for told, value in zip(wrong, arguments))
+                    error = errors[places[0]]
+                    self.fails(error, call, *given, **FIELDS.get(error, {}))
+
+    def test_values_of_shows_functions(self):
+        for call, arguments, _ in CALLS:
+            if call.__name__ in ("shows_why", "shows_ring", "is_ring"):
+                for value in JUNK + NEVER + (THREE, PLAN):
+                    self.assertIs(call(*arguments[:-1], value).__class__, bool)
+
+    def test_no_argument_is_modified(self):
+        for call, arguments, errors in CALLS:
+            for place in range(len(errors)):
+                for value in ([0, 1], {"a": [1]}, ([0], {}), [[0], [1]]):
+                    kept = copy.deepcopy(value)
+                    try:
+                        call(*arguments[:place], value, *arguments[place + 1:])
+                    except ValueError:
+                        pass
+                    self.assertEqual(value, kept)
+
+    def test_equal_arguments_have_equal_answers(self):
+        for call, arguments, _ in CALLS:
+            self.assertEqual(call(*arguments), call(*copy.deepcopy(arguments)))
+
+    def test_names_of_the_arguments(self):
+        self.assertEqual(clocks.needed(clock=THREE, wheel=0, edition=1, other=1), 1)
+        self.assertEqual(clocks.touching(clock=THREE, tick=0), ((0, 1),))
+        self.assertEqual(plans.edition_at(clock=THREE, plan=PLAN, wheel=0, tick=6), 1)
+        self.assertEqual(plans.mixed(clock=THREE, one=PLAN, other=PLAN, later=True), PLAN)
+        self.assertEqual(pushes.push(clock=THREE, exchange=(0, 1), other=(1, 1), tick=4), 6)
+        self.assertEqual(stairs.behind(one=(1,), other=(2,)), (3,))
+        self.assertEqual(stairs.times(row=(1,), many=3), (3,))
+        self.assertIs(stairs.is_below(one=(1,), other=(2,)), True)
+        self.assertIs(earliest.shows_why(clock=THREE, exchange=(0, 1), value=None), False)
+        self.assertIs(rings.shows_ring(clock=THREE, value=None), True)
+        self.assertEqual(middle.rest(clock=THREE, tick=0, standing=(1, 1, 1)), ((), (), ()))
