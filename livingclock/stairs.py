@@ -2,7 +2,7 @@
 
 from math import gcd
 
-from livingclock.checks import MOST, check_tick, is_between, is_whole
+from livingclock.checks import MOST, check_tick, is_between
 from livingclock.errors import BadNumber, BadRow, NotAlike
 
 MOST_LENGTH = 12
@@ -16,9 +16,9 @@ def row_at(row, tick):
 
 
 def behind(one, other):
-    """Return the row of the stair that does other first and then one; the numbers of both may be of any size."""
-    if not is_stair(one) or not is_stair(other):
-        raise BadRow("no row of a stair")
+    """Return the row of the stair that does other first and then one; its numbers may be beyond those of a step row."""
+    check_row(one)
+    check_row(other)
     check_alike(one, other)
     return composed(one, other)
 
@@ -65,7 +65,7 @@ def pace(row):
 
 def check_row(row):
     """Raise BadRow for a value that is no step row."""
-    if not is_stair(row) or not all(is_between(number, -MOST, MOST) for number in row):
+    if not is_step_row(row):
         raise BadRow("no step row")
 
 
@@ -75,11 +75,11 @@ def check_alike(one, other):
         raise NotAlike("the rows have unlike lengths")
 
 
-def is_stair(value):
-    """Tell whether a value has the form of a step row, its numbers being of any size."""
+def is_step_row(value):
+    """Tell whether a value is a step row."""
     if not isinstance(value, tuple) or not 1 <= len(value) <= MOST_LENGTH:
         return False
-    if not all(is_whole(number) for number in value):
+    if not all(is_between(number, -MOST, MOST) for number in value):
         return False
     rising = all([number <= later for number, later in zip(value, value[1:])])
     return rising and value[-1] <= value[0] + len(value)

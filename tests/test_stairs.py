@@ -65,7 +65,6 @@ class RowTest(Case):
             self.fails(BadRow, pace, value)
             self.fails(BadRow, is_below, value, (0, 0))
             self.fails(BadRow, is_below, (0, 0), value)
-        for value in WRONG_ROWS:
             self.fails(BadRow, behind, value, (0, 0))
             self.fails(BadRow, behind, (0, 0), value)
 
@@ -98,13 +97,19 @@ class BehindTest(Case):
         self.assertEqual(behind((0, 2), (1, 1)), (2, 2))
         self.assertEqual(behind((1, 1), (0, 2)), (1, 3))
 
-    def test_numbers_may_be_greater(self):
+    def test_numbers_of_the_answer_may_be_greater(self):
         self.assertEqual(behind((FAR,), (FAR,)), (2 * FAR,))
+        self.assertEqual(behind((FAR,), (1,)), (FAR + 1,))
         self.assertEqual(behind((-FAR, -FAR), (-FAR, 1 - FAR)), (-2 * FAR, -2 * FAR))
-        self.assertEqual(behind((5 * FAR,), (7 * FAR,)), (12 * FAR,))
-        far, near = times((1, 2, 4), FAR), times((1, 2, 4), 5)
-        self.assertEqual(behind(far, near), behind(near, far))
-        self.assertEqual(behind(far, near)[0], far[1] + 6)
+        half = times((1, 2, 4), FAR // 2)
+        self.assertEqual(behind(half, half), times((1, 2, 4), FAR))
+
+    def test_numbers_of_the_rows_may_not_be_greater(self):
+        self.fails(BadRow, behind, (1,), (FAR + 1,))
+        self.fails(BadRow, behind, (FAR + 1,), (1,))
+        self.fails(BadRow, behind, (1, 2), (-FAR - 1, -FAR))
+        # What behind returns may be too great to be given to it again.
+        self.fails(BadRow, behind, behind((FAR,), (FAR,)), (0,))
 
     def test_many_rows(self):
         for one, other in some_rows(60, 2):
@@ -117,6 +122,8 @@ class BehindTest(Case):
         self.fails(NotAlike, behind, (0, 1), (0,))
         self.fails(BadRow, behind, (0,), (1, 0))
         self.fails(BadRow, behind, (1, 0), (0,))
+        self.fails(BadRow, behind, (0, 1), (FAR + 1,))
+        self.fails(BadRow, behind, (FAR + 1,), (0, 1))
 
 
 class TimesTest(Case):
