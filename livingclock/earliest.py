@@ -50,11 +50,22 @@ def settled(clock, firsts):
 
     Firsts is a dict from some exchanges to gaps of their wheels; only pushes among these exchanges count.
     """
-    table = push_table(clock)
-    numbers = {exchange: firsts[exchange] for exchange in firsts}
+    return settled_by(push_table(clock), clock[0], firsts)
+
+
+def settled_by(table, period, firsts):
+    """Return what settled does, by the table of the pushes of a clock of this period."""
     # Least numbers leave no hole of two rounds, else all above it could come down a round: none is beyond this limit.
-    limit = max(list(firsts.values()), default=0) + 2 * clock[0] * len(firsts)
-    moved = list(firsts)
+    limit = max(list(firsts.values()), default=0) + 2 * period * len(firsts)
+    return lifted_numbers(table, firsts, list(firsts), limit)
+
+
+def lifted_numbers(table, firsts, moved, limit):
+    """Return a dict of the least numbers, from the first ones on, that no push lifts; None if one is at the limit.
+
+    Moved is a list of exchanges: only pushes of these, and of those that they lift, can lift a number.
+    """
+    numbers = {exchange: firsts[exchange] for exchange in firsts}
     while moved:
         lifted = []
         for exchange in moved:

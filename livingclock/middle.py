@@ -9,11 +9,7 @@ from livingclock.errors import BadStanding
 def rest(clock, tick, standing):
     """Return the earliest right rest from a tick on, as a plan of the exchanges still to be done; None without one."""
     check_moment(clock, tick, standing)
-    firsts = {exchange: first_gap(clock, exchange[0], tick) for exchange in undone(clock, standing)}
-    numbers = timely(clock, tick, standing, firsts)
-    if numbers is None:
-        return None
-    return rows_of(clock, numbers)
+    return rest_beside(clock, tick, standing, ())
 
 
 def due(clock, tick, standing):
@@ -25,20 +21,24 @@ def due(clock, tick, standing):
 def safe(clock, tick, standing):
     """Return the ascending tuple of the wheels that may be exchanged at this tick so that there is a rest."""
     check_moment(clock, tick, standing)
-    return tuple([wheel for wheel in range(len(standing)) if is_safe(clock, tick, standing, wheel)])
+    return safe_beside(clock, tick, standing, ())
 
 
 def may_wait(clock, tick, standing):
     """Tell whether there is a rest without any exchange at this tick."""
     check_moment(clock, tick, standing)
-    firsts = {exchange: first_gap(clock, exchange[0], tick + 1) for exchange in undone(clock, standing)}
-    return timely(clock, tick, standing, firsts) is not None
+    return timely(clock, tick, standing, firsts_from(clock, tick + 1, standing, ())) is not None
 
 
 def check_moment(clock, tick, standing):
     """Raise the error of the first argument that is no clock, no tick or no standing."""
     check_clock(clock)
     check_tick(tick, 0)
+    check_standing(clock, standing)
+
+
+def check_standing(clock, standing):
+    """Raise BadStanding for a value that is no standing of the clock."""
     if not is_standing(clock, standing):
         raise BadStanding("not a tuple of an edition for each wheel")
 
@@ -87,14 +87,32 @@ def timely(clock, tick, standing, firsts):
     return numbers
 
 
-def is_safe(clock, tick, standing, wheel):
+def rest_beside(clock, tick, standing, busy):
+    """Return what rest does, busy being the wheels that were exchanged at this tick and can't be so again."""
+    numbers = timely(clock, tick, standing, firsts_from(clock, tick, standing, busy))
+    if numbers is None:
+        return None
+    return rows_of(clock, numbers)
+
+
+def safe_beside(clock, tick, standing, busy):
+    """Return what safe does, without the busy wheels, which were exchanged at this tick."""
+    wheels = [wheel for wheel in range(len(standing)) if wheel not in busy]
+    return tuple([wheel for wheel in wheels if is_safe(clock, tick, standing, wheel, busy)])
+
+
+def is_safe(clock, tick, standing, wheel, busy):
     """Tell whether a wheel may be exchanged by one edition at this tick so that there is a rest."""
     if standing[wheel] == clock[1][wheel] or tick % clock[0] not in clock[3][wheel]:
         return False
     after = standing[:wheel] + (standing[wheel] + 1,) + standing[wheel + 1:]
+    return rest_beside(clock, tick, after, busy + (wheel,)) is not None
+
+
+def firsts_from(clock, tick, standing, busy):
+    """Return a dict from each exchange still to be done to its wheel's first gap, behind the tick for busy wheels."""
     firsts = {}
-    for exchange in undone(clock, after):
-        # The wheel itself is exchanged at this tick, so its next exchange comes later.
-        low = tick + 1 if exchange[0] == wheel else tick
+    for exchange in undone(clock, standing):
+        low = tick + 1 if exchange[0] in busy else tick
         firsts[exchange] = first_gap(clock, exchange[0], low)
-    return timely(clock, tick, after, firsts) is not None
+    return firsts

@@ -3,11 +3,14 @@
 import copy
 import itertools
 
-from livingclock import clocks, earliest, middle, plans, pushes, rings, stairs
-from livingclock.errors import (
-    BadChoice, BadClock, BadEdition, BadExchange, BadNumber, BadPlan, BadRow, BadStanding, BadTick, BadWheel,
+from livingclock import (
+    charts, clocks, clocktexts, courses, earliest, joinings, middle, plans, pushes, rings, stairs,
 )
-from tests.samples import JUNK, THREE, Case
+from livingclock.errors import (
+    BadChoice, BadClock, BadEdition, BadExchange, BadNumber, BadOrder, BadPhase, BadPlan, BadRow, BadStanding,
+    BadString, BadTick, BadWheel,
+)
+from tests.samples import JUNK, LONE, THREE, Case, nested
 
 PLAN = ((6,), (4,), (2,))
 # Each function with right arguments and the error that each argument has for a value of another kind.
@@ -38,6 +41,25 @@ CALLS = (
     (middle.due, (THREE, 4, (0, 0, 1)), (BadClock, BadTick, BadStanding)),
     (middle.safe, (THREE, 4, (0, 0, 1)), (BadClock, BadTick, BadStanding)),
     (middle.may_wait, (THREE, 4, (0, 0, 1)), (BadClock, BadTick, BadStanding)),
+    (joinings.together, (THREE, THREE), (BadClock, BadClock)),
+    (joinings.slowed, (THREE, 2), (BadClock, BadNumber)),
+    (joinings.quickest, (THREE,), (BadClock,)),
+    (joinings.renamed, (THREE, (2, 0, 1)), (BadClock, BadOrder)),
+    (joinings.renamed_plan, (THREE, PLAN, (2, 0, 1)), (BadClock, BadPlan, BadOrder)),
+    (joinings.turned, (THREE, 2), (BadClock, BadNumber)),
+    (joinings.parts, (THREE,), (BadClock,)),
+    (joinings.part_of, (THREE, (0, 2)), (BadClock, BadOrder)),
+    (clocktexts.write_clock, (THREE,), (BadClock,)),
+    (clocktexts.read_clock, ("period 1\nwheel 0",), (BadString,)),
+    (clocktexts.write_plan, (THREE, PLAN), (BadClock, BadPlan)),
+    (clocktexts.read_plan, (THREE, "wheel 6\nwheel 4\nwheel 2"), (BadClock, BadString)),
+    (charts.chart, (THREE, PLAN, 7), (BadClock, BadPlan, BadNumber)),
+    (charts.read_chart, (THREE, charts.chart(THREE, PLAN, 7)), (BadClock, BadString)),
+    (courses.next_standings, (THREE, 2, (0, 0, 1), 3), (BadClock, BadPhase, BadStanding, BadNumber)),
+    (courses.shortest, (THREE, 4, (0, 0, 1), 3), (BadClock, BadTick, BadStanding, BadNumber)),
+    (courses.shows_shortest, (THREE, 4, (0, 0, 1), 3, None), (BadClock, BadTick, BadStanding, BadNumber, None)),
+    (courses.standings, (THREE, 3), (BadClock, BadNumber)),
+    (courses.ending, (THREE, 3), (BadClock, BadNumber)),
 )
 # Values that are of the wrong kind for every argument there is.
 NEVER = (None, "", "three", [], [0], {}, {0: 1}, (None,), ((), []), ("0", 1), 10 ** 40, -10 ** 40)
@@ -55,6 +77,8 @@ class ArgumentsTest(Case):
             for place, error in enumerate(errors):
                 for value in NEVER:
                     given = arguments[:place] + (value,) + arguments[place + 1:]
+                    if error is BadString and isinstance(value, str):
+                        continue
                     if error is None:
                         self.assertIs(call(*given).__class__, bool)
                     else:
@@ -78,8 +102,8 @@ class ArgumentsTest(Case):
 
     def test_values_of_shows_functions(self):
         for call, arguments, _ in CALLS:
-            if call.__name__ in ("shows_why", "shows_ring", "is_ring"):
-                for value in JUNK + NEVER + (THREE, PLAN):
+            if call.__name__.startswith("shows") or call.__name__ == "is_ring":
+                for value in JUNK + NEVER + (THREE, PLAN, nested(20000), (nested(20000),), ((nested(20000),),)):
                     self.assertIs(call(*arguments[:-1], value).__class__, bool)
 
     def test_no_argument_is_modified(self):
@@ -109,3 +133,14 @@ class ArgumentsTest(Case):
         self.assertIs(earliest.shows_why(clock=THREE, exchange=(0, 1), value=None), False)
         self.assertIs(rings.shows_ring(clock=THREE, value=None), True)
         self.assertEqual(middle.rest(clock=THREE, tick=0, standing=(1, 1, 1)), ((), (), ()))
+        self.assertEqual(joinings.together(one=LONE, other=LONE)[1], (0, 0))
+        self.assertEqual(joinings.slowed(clock=LONE, many=3)[0], 3)
+        self.assertEqual(joinings.renamed_plan(clock=THREE, plan=PLAN, order=(0, 1, 2)), PLAN)
+        self.assertEqual(joinings.turned(clock=LONE, by=3), LONE)
+        self.assertEqual(joinings.part_of(clock=LONE, wheels=(0,)), LONE)
+        self.assertEqual(clocktexts.read_clock(text="period 1\nwheel 0"), LONE)
+        self.assertEqual(clocktexts.read_plan(clock=LONE, text="wheel"), ((),))
+        self.assertEqual(charts.chart(clock=LONE, plan=((),), many=1), "0: 0")
+        self.assertEqual(charts.read_chart(clock=LONE, text="0: 0"), ((),))
+        self.assertEqual(courses.next_standings(clock=LONE, phase=0, standing=(0,), hands=0), ((0,),))
+        self.assertIs(courses.shows_shortest(clock=LONE, tick=0, standing=(0,), hands=0, value=()), True)

@@ -15,7 +15,7 @@ BARRED = (
     "type typing typing_extensions enum Enum IntEnum StrEnum Flag IntFlag Generic Protocol ABC ABCMeta namedtuple "
     "NamedTuple TypedDict TYPE_CHECKING abstractmethod eval exec open input register law mro elements global async"
 ).split()
-LIBRARY = {"math": {"gcd"}}
+LIBRARY = {"math": {"gcd", "lcm"}, "heapq": {"heappop", "heappush"}}
 
 
 def trees():

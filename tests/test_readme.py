@@ -14,6 +14,6 @@ class ReadmeTest(unittest.TestCase):
         names = {}
         exec(code, names)
         lines = [line.split("#") for line in code.splitlines() if "#" in line]
-        self.assertEqual(len(lines), 7)
+        self.assertEqual(len(lines), 11)
         for line, told in lines:
             self.assertEqual(eval(line, names), ast.literal_eval(told.strip()), line)
