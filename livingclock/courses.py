@@ -6,7 +6,7 @@ from livingclock.checks import is_between, is_rising
 from livingclock.clocks import check_clock, first_from, touch_phases
 from livingclock.earliest import settled_by
 from livingclock.errors import BadNumber, BadPhase, TooMany
-from livingclock.middle import check_moment, check_standing, firsts_from, rest_beside
+from livingclock.middle import check_moment, check_standing, firsts_from, raised, rest_beside
 from livingclock.pushes import push_table
 
 MOST_HANDS = 12
@@ -133,11 +133,6 @@ def tries_at(clock, phase, standing, hands):
             more = [(deed + (wheel,), raised(after, wheel)) for deed, after in pairs if len(deed) < hands]
             pairs = pairs + more
     return pairs
-
-
-def raised(standing, wheel):
-    """Return a standing with the next edition of a wheel."""
-    return standing[:wheel] + (standing[wheel] + 1,) + standing[wheel + 1:]
 
 
 def entries_at(clock, phase):

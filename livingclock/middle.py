@@ -27,7 +27,7 @@ def safe(clock, tick, standing):
 def may_wait(clock, tick, standing):
     """Tell whether there is a rest without any exchange at this tick."""
     check_moment(clock, tick, standing)
-    return timely(clock, tick, standing, firsts_from(clock, tick + 1, standing, ())) is not None
+    return has_later_rest(clock, tick, standing)
 
 
 def check_moment(clock, tick, standing):
@@ -101,12 +101,21 @@ def safe_beside(clock, tick, standing, busy):
     return tuple([wheel for wheel in wheels if is_safe(clock, tick, standing, wheel, busy)])
 
 
+def has_later_rest(clock, tick, standing):
+    """Return what may_wait does, for arguments that are known to be right."""
+    return timely(clock, tick, standing, firsts_from(clock, tick + 1, standing, ())) is not None
+
+
 def is_safe(clock, tick, standing, wheel, busy):
     """Tell whether a wheel may be exchanged by one edition at this tick so that there is a rest."""
     if standing[wheel] == clock[1][wheel] or tick % clock[0] not in clock[3][wheel]:
         return False
-    after = standing[:wheel] + (standing[wheel] + 1,) + standing[wheel + 1:]
-    return rest_beside(clock, tick, after, busy + (wheel,)) is not None
+    return rest_beside(clock, tick, raised(standing, wheel), busy + (wheel,)) is not None
+
+
+def raised(standing, wheel):
+    """Return a standing with the next edition of a wheel."""
+    return standing[:wheel] + (standing[wheel] + 1,) + standing[wheel + 1:]
 
 
 def firsts_from(clock, tick, standing, busy):

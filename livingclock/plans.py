@@ -73,6 +73,13 @@ def check_plan(clock, plan):
             raise BadPlan(wheel)
 
 
+def is_plan(clock, value):
+    """Tell whether a value is a plan of the clock."""
+    if not is_tuple_of(value, len(clock[1])):
+        return False
+    return all([are_ticks(clock, wheel, ticks) for wheel, ticks in enumerate(value)])
+
+
 def are_ticks(clock, wheel, value):
     """Tell whether a value can be the ticks of a wheel in a plan."""
     if not is_tuple_of(value, clock[1][wheel]) or not all(is_between(tick, 0, MOST_PLANNED) for tick in value):

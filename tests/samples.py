@@ -139,6 +139,23 @@ def plain_first_wrong(clock, plan):
     return None
 
 
+def plain_plans(clock, before):
+    """Return the ascending list of the right plans ahead of a tick, by trying all; None if there are many to try."""
+    rows, many = [], 1
+    for last, phases in zip(clock[1], clock[3]):
+        able = [tick for tick in range(before) if tick % clock[0] in phases]
+        rows.append(list(itertools.combinations(able, last)))
+        many *= len(rows[-1])
+    if many > 3000:
+        return None
+    return [plan for plan in itertools.product(*rows) if plain_first_wrong(clock, plan) is None]
+
+
+def nowhere_later(one, other):
+    """Tell whether no exchange of a plan is later than that of another one."""
+    return all(tick <= twin for ticks, twins in zip(one, other) for tick, twin in zip(ticks, twins))
+
+
 def plain_leans(clock, u, w):
     """Tell whether an exchange leans on another one."""
     if u[0] == w[0]:
@@ -183,9 +200,14 @@ def deeds(clock, tick, standing):
     return found
 
 
+def all_standings(clock):
+    """Return the list of all standings of a clock."""
+    return list(itertools.product(*[range(last + 1) for last in clock[1]]))
+
+
 def good_states(clock):
     """Return the set of the pairs (phase, standing) from which all wheels can come to their last editions."""
-    standings = list(itertools.product(*[range(last + 1) for last in clock[1]]))
+    standings = all_standings(clock)
     good = {(phase, clock[1]) for phase in range(clock[0])}
     grown = True
     while grown:
@@ -200,19 +222,23 @@ def good_states(clock):
     return good
 
 
-def earliest_ways(clock, tick, standing, good):
-    """Return, for each wheel, the earliest tick of each exchange to be done, each over all ways of going on."""
-    if (tick % clock[0], standing) not in good:
-        return None
+def earliest_ways(clock, tick, standing, good, busy=()):
+    """Return, for each wheel, the earliest tick of each exchange to be done, each over all ways of going on.
+
+    Busy wheels are not exchanged at the first tick.
+    """
     firsts = {}
     layer = {standing}
     now = tick
-    while not all(exchange in firsts for exchange in still_undone(clock, standing)):
+    while now == tick or not all(exchange in firsts for exchange in still_undone(clock, standing)):
         behind = set()
         for before in layer:
-            for _, after in deeds(clock, now, before):
-                if ((now + 1) % clock[0], after) in good:
+            for wheels, after in deeds(clock, now, before):
+                barred = now == tick and any(wheel in busy for wheel in wheels)
+                if ((now + 1) % clock[0], after) in good and not barred:
                     behind.add(after)
+        if not behind:
+            return None
         for after in behind:
             for exchange in still_undone(clock, standing):
                 if after[exchange[0]] >= exchange[1]:

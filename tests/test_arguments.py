@@ -4,15 +4,18 @@ import copy
 import itertools
 
 from livingclock import (
-    charts, clocks, clocktexts, courses, earliest, joinings, middle, plans, pushes, rings, stairs,
+    charts, clocks, clocktexts, courses, earliest, joinings, lattices, mends, middle, plans, prices, pushes, rings,
+    stairs,
 )
+from livingclock.benches import Bench
 from livingclock.errors import (
-    BadChoice, BadClock, BadEdition, BadExchange, BadNumber, BadOrder, BadPhase, BadPlan, BadRow, BadStanding,
-    BadString, BadTick, BadWheel,
+    BadChoice, BadClock, BadEdition, BadExchange, BadNumber, BadOrder, BadPhase, BadPlan, BadPrices, BadRow,
+    BadStanding, BadString, BadTick, BadWheel,
 )
 from tests.samples import JUNK, LONE, THREE, Case, nested
 
 PLAN = ((6,), (4,), (2,))
+PRICES = ((0,) * 7, (1,) * 7, (2,) * 7)
 # Each function with right arguments and the error that each argument has for a value of another kind.
 CALLS = (
     (clocks.exchanges, (THREE,), (BadClock,)),
@@ -60,6 +63,21 @@ CALLS = (
     (courses.shows_shortest, (THREE, 4, (0, 0, 1), 3, None), (BadClock, BadTick, BadStanding, BadNumber, None)),
     (courses.standings, (THREE, 3), (BadClock, BadNumber)),
     (courses.ending, (THREE, 3), (BadClock, BadNumber)),
+    (Bench, (THREE,), (BadClock,)),
+    (Bench(THREE).exchange, (0,), (BadWheel,)),
+    (lattices.plans, (THREE, 7), (BadClock, BadNumber)),
+    (lattices.count_plans, (THREE, 7), (BadClock, BadNumber)),
+    (lattices.plan_at, (THREE, 7, 0), (BadClock, BadNumber, BadNumber)),
+    (lattices.number_of, (THREE, 7, PLAN), (BadClock, BadNumber, BadPlan)),
+    (lattices.latest, (THREE, 7), (BadClock, BadNumber)),
+    (lattices.way, (THREE, 7), (BadClock, BadNumber)),
+    (prices.price, (THREE, 7, PRICES, PLAN), (BadClock, BadNumber, BadPrices, BadPlan)),
+    (prices.cheapest, (THREE, 7, PRICES), (BadClock, BadNumber, BadPrices)),
+    (prices.shows_cheapest, (THREE, 7, PRICES, None), (BadClock, BadNumber, BadPrices, None)),
+    (mends.fewest_gaps, (THREE,), (BadClock,)),
+    (mends.shows_fewest_gaps, (THREE, None), (BadClock, None)),
+    (mends.fewest_entries, (THREE,), (BadClock,)),
+    (mends.shows_fewest_entries, (THREE, None), (BadClock, None)),
 )
 # Values that are of the wrong kind for every argument there is.
 NEVER = (None, "", "three", [], [0], {}, {0: 1}, (None,), ((), []), ("0", 1), 10 ** 40, -10 ** 40)
@@ -70,7 +88,8 @@ class ArgumentsTest(Case):
 
     def test_right_arguments(self):
         for call, arguments, _ in CALLS:
-            call(*arguments)
+            if call.__name__ != "exchange":
+                call(*arguments)
 
     def test_each_argument_by_itself(self):
         for call, arguments, errors in CALLS:
@@ -119,7 +138,8 @@ class ArgumentsTest(Case):
 
     def test_equal_arguments_have_equal_answers(self):
         for call, arguments, _ in CALLS:
-            self.assertEqual(call(*arguments), call(*copy.deepcopy(arguments)))
+            if call is not Bench and call.__name__ != "exchange":
+                self.assertEqual(call(*arguments), call(*copy.deepcopy(arguments)))
 
     def test_names_of_the_arguments(self):
         self.assertEqual(clocks.needed(clock=THREE, wheel=0, edition=1, other=1), 1)
@@ -144,3 +164,11 @@ class ArgumentsTest(Case):
         self.assertEqual(charts.read_chart(clock=LONE, text="0: 0"), ((),))
         self.assertEqual(courses.next_standings(clock=LONE, phase=0, standing=(0,), hands=0), ((0,),))
         self.assertIs(courses.shows_shortest(clock=LONE, tick=0, standing=(0,), hands=0, value=()), True)
+        self.assertIsNone(Bench(clock=THREE).exchange(wheel=0))
+        self.assertEqual(lattices.plan_at(clock=THREE, before=7, number=0), PLAN)
+        self.assertEqual(lattices.number_of(clock=THREE, before=7, plan=PLAN), 0)
+        self.assertEqual(lattices.way(clock=LONE, before=1), (((),),))
+        self.assertEqual(prices.price(clock=LONE, before=1, prices=(), plan=((),)), 0)
+        self.assertIs(prices.shows_cheapest(clock=LONE, before=1, prices=(), value=None), False)
+        self.assertIs(mends.shows_fewest_gaps(clock=LONE, value=((), ())), True)
+        self.assertIs(mends.shows_fewest_entries(clock=LONE, value=((), ())), True)

@@ -7,18 +7,13 @@ from livingclock.courses import ending, next_standings, shortest, shows_shortest
 from livingclock.errors import BadClock, BadNumber, BadPhase, BadStanding, BadTick, TooMany
 from livingclock.middle import rest
 from tests.samples import (
-    CHASE, JUNK, LONE, PAIR, ROW, SKIPS, STILL, STUCK, THREE, Case, changed, deeds, plain_unfit, some_clock,
+    CHASE, JUNK, LONE, PAIR, ROW, SKIPS, STILL, STUCK, THREE, Case, all_standings, changed, deeds, some_clock,
 )
 
 FAR = 10 ** 30
 TWO = (2, (1, 1), ((0, 0, 1),), ((0,), (0,)), ((0, 1, 1, 1),))
 HANDS = (None, True, False, -1, 13, FAR, "1", (), (1,), [], {})
 SAMPLES = (THREE, STUCK, PAIR, LONE, CHASE, SKIPS, STILL, TWO)
-
-
-def all_standings(clock):
-    """Return the list of all standings of a clock."""
-    return list(itertools.product(*[range(last + 1) for last in clock[1]]))
 
 
 def steps(clock, tick, standing, hands):

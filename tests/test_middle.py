@@ -1,13 +1,11 @@
 """Point 9: rests from the midst of the work, what is due, what is safe, and whether it may wait."""
 
-import itertools
-
 from livingclock.earliest import earliest
 from livingclock.errors import BadClock, BadStanding, BadTick
 from livingclock.middle import due, may_wait, rest, safe
 from tests.samples import (
-    CHASE, JUNK, LONE, PAIR, ROW, SKIPS, STILL, STUCK, THREE, Case, deeds, earliest_ways, good_states, plain_needed,
-    plain_standing, plain_touch, plain_unfit, some_clock, still_undone,
+    CHASE, JUNK, LONE, PAIR, ROW, SKIPS, STILL, STUCK, THREE, Case, all_standings, deeds, earliest_ways, good_states,
+    plain_needed, plain_standing, plain_touch, plain_unfit, some_clock, still_undone,
 )
 
 FAR = 10 ** 30
@@ -15,11 +13,6 @@ WRONG_STANDINGS = JUNK + (
     (0, 0), (0, 0, 0, 0), [0, 0, 0], (0, 0, 2), (0, 0, -1), (0, 0, True), (False, 0, 0), (0, 0, None), (0, 0, "0"),
     (0, 0, (0,)), "000", {0: 0, 1: 0, 2: 0}, (0, [0], 0), (None, None, None),
 )
-
-
-def all_standings(clock):
-    """Return the list of all standings of a clock."""
-    return list(itertools.product(*[range(last + 1) for last in clock[1]]))
 
 
 def plain_due(clock, tick, standing):

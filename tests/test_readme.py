@@ -10,10 +10,15 @@ README = pathlib.Path(__file__).resolve().parent.parent / "README.md"
 class ReadmeTest(unittest.TestCase):
 
     def test_example(self):
-        code = README.read_text(encoding="utf-8").split("```python\n")[1].split("```")[0]
+        blocks = [part.split("```")[0] for part in README.read_text(encoding="utf-8").split("```python\n")[1:]]
+        self.assertEqual(len(blocks), 2)
         names = {}
-        exec(code, names)
-        lines = [line.split("#") for line in code.splitlines() if "#" in line]
-        self.assertEqual(len(lines), 11)
-        for line, told in lines:
-            self.assertEqual(eval(line, names), ast.literal_eval(told.strip()), line)
+        told = 0
+        for line in "".join(blocks).splitlines():
+            code, _, answer = line.partition("#")
+            if answer:
+                self.assertEqual(eval(code, names), ast.literal_eval(answer.strip()), line)
+                told += 1
+            else:
+                exec(code, names)
+        self.assertEqual(told, 19)
