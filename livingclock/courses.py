@@ -200,8 +200,8 @@ class CourseSearch:
         self.hands = hands
         self.table = push_table(clock)
         self.entries = [entries_at(clock, phase) for phase in range(clock[0])]
-        self.binding = [(entry, touch_phases(clock, entry[0], entry[2])) for entry in clock[4]]
-        self.lots = lots_of(clock)
+        self.needs = [(entry, touch_phases(clock, entry[0], entry[2])) for entry in clock[4]]
+        self.groups = lots_of(clock)
         self.former = {}
         self.queue = []
 
@@ -273,7 +273,7 @@ class CourseSearch:
 
     def is_late(self, tick, standing, numbers):
         """Tell whether an exchange comes, at its number, later than an edition that stands needs it."""
-        for entry, phases in self.binding:
+        for entry, phases in self.needs:
             wheel, edition, other, least = entry
             if phases and standing[wheel] >= edition and standing[other] < least:
                 if numbers[(other, least)] > first_from(self.clock, phases, tick):
@@ -282,7 +282,7 @@ class CourseSearch:
 
     def least_by_hands(self, phase, standing):
         """Return how many deeds the hands need at least from a phase on, if all wheels always fitted."""
-        return max([self.least_for(lot, phase, standing) for lot in self.lots])
+        return max([self.least_for(lot, phase, standing) for lot in self.groups])
 
     def least_for(self, lot, phase, standing):
         """Return how many deeds the exchanges of a lot of wheels need at least from a phase on."""

@@ -124,6 +124,23 @@ class ShortestTest(Case):
         for name, many in counts.items():
             self.assertGreater(many, 20, name)
 
+    def test_with_few_hands(self):
+        waited = 0
+        for seed in range(500):
+            clock = some_clock(seed, most_period=5, most_wheels=5, most_edition=4)
+            standing = (0,) * len(clock[1])
+            if len(clock[1]) < 3 or rest(clock, seed % 7, standing) is None:
+                continue
+            for hands in (1, 2):
+                tick = seed % 7
+                least = plain_least(clock, tick, standing, hands)
+                course = shortest(clock, tick, standing, hands)
+                self.assertEqual(None if course is None else len(course), least, (clock, tick, hands))
+                if course is not None:
+                    self.assertTrue(plain_is_course(clock, tick, standing, hands, course))
+                    waited += least > len(shortest(clock, tick, standing, 12))
+        self.assertGreater(waited, 60)
+
     def test_with_all_hands_it_is_the_rest(self):
         for clock, tick, standing, _ in some_moments(150):
             told = rest(clock, tick, standing)

@@ -236,6 +236,13 @@ class IsBarTest(Case):
         self.assertTrue(is_bar(STUCK, pairs[:399]))
         self.assertFalse(is_bar(STUCK, pairs))
         self.assertFalse(is_bar(STUCK, pairs[:1]))
+        told = ring(CHASE)
+        rise = told[-1][1] - told[0][1]
+        longer = tuple(
+            (exchange, number + rise * times) for times in range(134) for exchange, number in told[:len(told) - 1]
+        )
+        self.assertTrue(is_bar(CHASE, longer[:400]))
+        self.assertEqual((len(told), longer[399]), (4, (told[0][0], told[0][1] + 133 * rise)))
 
     def test_a_later_edition_serves(self):
         # Edition 1 of wheel 1 needs edition 2 of wheel 0, so it is behind edition 1, too.

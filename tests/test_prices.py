@@ -199,6 +199,15 @@ class ShowsCheapestTest(Case):
         self.assertIs(shows_cheapest(EXAMPLE, 2, PRICES, (plan, cost, ((step, wanted, 4),))), True)
         self.assertIs(shows_cheapest(EXAMPLE, 2, PRICES, (plan, cost, ((step, wanted, 5),))), False)
 
+    def test_the_greatest_amounts(self):
+        # Steps that want each other may give each other what they like, up to the limit.
+        clock = (2, (1, 1), ((0, 0, 1), (1, 0, 1)), ((1,), (1,)), ((0, 1, 1, 1), (1, 1, 0, 1)))
+        prices = ((0, 5, 0, 5), (0, 4, 0, 4))
+        one, other = ((0, 1), 3), ((1, 1), 3)
+        for amount, shown in ((1, True), (10 ** 9, True), (10 ** 9 + 1, False), (10 ** 30, False)):
+            paper = ((one, other, amount), (other, one, amount))
+            self.assertIs(shows_cheapest(clock, 4, prices, (((1,), (1,)), 9, paper)), shown)
+
     def test_none(self):
         self.assertIs(shows_cheapest(STUCK, 2, ((0, 0), (0, 0)), None), True)
         self.assertIs(shows_cheapest(STUCK, 2, ((0, 0), (0, 0)), (((0,), (1,)), 0, ())), False)
