@@ -46,18 +46,8 @@ def standings(clock, hands):
     check_clock(clock)
     check_hands(hands)
     check_many(clock, MOST_PAIRS)
-    start = (0, (0,) * len(clock[1]))
-    seen = {start: True}
-    layer = [start]
-    while layer:
-        reached = []
-        for pair in layer:
-            for follower in followers(clock, pair, hands):
-                if follower not in seen:
-                    seen[follower] = True
-                    reached.append(follower)
-        layer = reached
-    return tuple(sorted(list(seen)))
+    links = {pair: followers(clock, pair, hands) for pair in all_pairs(clock)}
+    return tuple(sorted(all_from([(0, (0,) * len(clock[1]))], links)))
 
 
 def ending(clock, hands):
@@ -70,17 +60,7 @@ def ending(clock, hands):
     for pair in pairs:
         for follower in followers(clock, pair, hands):
             leaders[follower].append(pair)
-    layer = [(phase, clock[1]) for phase in range(clock[0])]
-    good = {pair: True for pair in layer}
-    while layer:
-        reached = []
-        for pair in layer:
-            for leader in leaders[pair]:
-                if leader not in good:
-                    good[leader] = True
-                    reached.append(leader)
-        layer = reached
-    return tuple(sorted(list(good)))
+    return tuple(sorted(all_from([(phase, clock[1]) for phase in range(clock[0])], leaders)))
 
 
 def check_phase(clock, phase):
@@ -110,6 +90,21 @@ def all_pairs(clock):
     for last in clock[1]:
         found = [standing + (edition,) for standing in found for edition in range(last + 1)]
     return [(phase, standing) for phase in range(clock[0]) for standing in found]
+
+
+def all_from(starts, links):
+    """Return the list of all pairs to which links lead, links being a dict from each pair to a list of pairs."""
+    seen = {pair: True for pair in starts}
+    layer = starts
+    while layer:
+        reached = []
+        for pair in layer:
+            for other in links[pair]:
+                if other not in seen:
+                    seen[other] = True
+                    reached.append(other)
+        layer = reached
+    return list(seen)
 
 
 def followers(clock, pair, hands):
