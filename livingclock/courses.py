@@ -3,11 +3,9 @@
 from heapq import heappop, heappush
 
 from livingclock.checks import is_between, is_rising
-from livingclock.clocks import check_clock, first_from, touch_phases
-from livingclock.earliest import settled_by
+from livingclock.clocks import check_clock
 from livingclock.errors import BadNumber, BadPhase, TooMany
-from livingclock.middle import check_moment, check_standing, firsts_from, raised, rest_beside
-from livingclock.pushes import push_table
+from livingclock.middle import Rests, check_moment, check_standing, firsts_from, raised, rest_beside
 
 MOST_HANDS = 12
 MOST_PAIRS = 4000
@@ -77,19 +75,30 @@ def check_hands(hands):
 
 def check_many(clock, most):
     """Raise TooMany if the clock has more than so many pairs (phase, standing)."""
+    if not is_within(clock, most):
+        raise TooMany(most)
+
+
+def is_within(clock, most):
+    """Tell whether the clock has at most so many pairs (phase, standing)."""
     many = clock[0]
     for last in clock[1]:
         many = many * (last + 1)
-    if many > most:
-        raise TooMany(most)
+    return many <= most
 
 
 def all_pairs(clock):
     """Return the ascending list of all pairs (phase, standing) of a clock."""
-    found = [()]
-    for last in clock[1]:
-        found = [standing + (edition,) for standing in found for edition in range(last + 1)]
+    found = standings_between((0,) * len(clock[1]), clock[1])
     return [(phase, standing) for phase in range(clock[0]) for standing in found]
+
+
+def standings_between(low, high):
+    """Return the ascending list of the standings that have no edition less than a low one's or above a high one's."""
+    found = [()]
+    for least, last in zip(low, high):
+        found = [standing + (edition,) for standing in found for edition in range(least, last + 1)]
+    return found
 
 
 def all_from(starts, links):
@@ -193,9 +202,8 @@ class CourseSearch:
         self.clock = clock
         self.first_tick = tick
         self.hands = hands
-        self.table = push_table(clock)
+        self.rests = Rests(clock)
         self.entries = [entries_at(clock, phase) for phase in range(clock[0])]
-        self.needs = [(entry, touch_phases(clock, entry[0], entry[2])) for entry in clock[4]]
         self.groups = lots_of(clock)
         self.former = {}
         self.queue = []
@@ -260,20 +268,11 @@ class CourseSearch:
     def least_left(self, tick, standing):
         """Return a number of deeds that is needed from a tick on at least, None if there is no rest."""
         firsts = firsts_from(self.clock, tick, standing, ())
-        numbers = settled_by(self.table, self.clock[0], firsts)
-        if numbers is None or self.is_late(tick, standing, numbers):
+        numbers = self.rests.numbers_from(tick, standing, firsts)
+        if numbers is None:
             return None
         end = max(list(numbers.values()), default=tick - 1) + 1
         return max(end - tick, self.least_by_hands(tick % self.clock[0], standing))
-
-    def is_late(self, tick, standing, numbers):
-        """Tell whether an exchange comes, at its number, later than an edition that stands needs it."""
-        for entry, phases in self.needs:
-            wheel, edition, other, least = entry
-            if phases and standing[wheel] >= edition and standing[other] < least:
-                if numbers[(other, least)] > first_from(self.clock, phases, tick):
-                    return True
-        return False
 
     def least_by_hands(self, phase, standing):
         """Return how many deeds the hands need at least from a phase on, if all wheels always fitted."""

@@ -179,6 +179,27 @@ def fewest(mend):
     return (lot, tuple(bars))
 
 
+def first_enough(things, is_enough):
+    """Return the first of the shortest lots of things that are enough, None if not even all are.
+
+    Things is an ascending tuple; what is enough is enough with more things, too.
+    """
+    clauses = []
+    lot = ()
+    while not is_enough(lot):
+        wide = list(lot)
+        for thing in things:
+            if thing not in wide and not is_enough(tuple(sorted(wide + [thing]))):
+                wide.append(thing)
+        # A lot without any of the things that are left out is not enough.
+        clauses.append([1 << place for place, thing in enumerate(things) if thing not in wide])
+        if not clauses[-1]:
+            return None
+        chosen = first_breaking(clauses)
+        lot = tuple([thing for place, thing in enumerate(things) if chosen >> place & 1])
+    return lot
+
+
 def is_shown(mend, value):
     """Tell whether a value is a pair of the first shortest lot and bars that show that it is."""
     if not is_tuple_of(value, 2):

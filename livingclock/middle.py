@@ -2,8 +2,9 @@
 
 from livingclock.checks import check_tick, is_between, is_tuple_of
 from livingclock.clocks import all_exchanges, check_clock, first_from, first_gap, least_needed, touch_phases
-from livingclock.earliest import rows_of, settled
+from livingclock.earliest import rows_of, settled_by
 from livingclock.errors import BadStanding
+from livingclock.pushes import push_table
 
 
 def rest(clock, tick, standing):
@@ -76,20 +77,9 @@ def touches_needing(clock, tick, standing, exchange):
     return touches
 
 
-def timely(clock, tick, standing, firsts):
-    """Return the least numbers from the first ones on, None if there are none or one is later than it is due."""
-    numbers = settled(clock, firsts)
-    if numbers is None:
-        return None
-    # The least numbers are at no exchange later than others: if they are too late, all are.
-    if any(numbers[exchange] > latest for exchange, latest in due_pairs(clock, tick, standing)):
-        return None
-    return numbers
-
-
 def rest_beside(clock, tick, standing, busy):
     """Return what rest does, busy being the wheels that were exchanged at this tick and can't be so again."""
-    numbers = timely(clock, tick, standing, firsts_from(clock, tick, standing, busy))
+    numbers = Rests(clock).numbers_from(tick, standing, firsts_from(clock, tick, standing, busy))
     if numbers is None:
         return None
     return rows_of(clock, numbers)
@@ -103,7 +93,8 @@ def safe_beside(clock, tick, standing, busy):
 
 def has_later_rest(clock, tick, standing):
     """Return what may_wait does, for arguments that are known to be right."""
-    return timely(clock, tick, standing, firsts_from(clock, tick + 1, standing, ())) is not None
+    firsts = firsts_from(clock, tick + 1, standing, ())
+    return Rests(clock).numbers_from(tick, standing, firsts) is not None
 
 
 def is_safe(clock, tick, standing, wheel, busy):
@@ -125,3 +116,30 @@ def firsts_from(clock, tick, standing, busy):
         low = tick + 1 if exchange[0] in busy else tick
         firsts[exchange] = first_gap(clock, exchange[0], low)
     return firsts
+
+
+class Rests:
+    """The earliest rests of a clock, asked for at many moments."""
+
+    def __init__(self, clock):
+        self.clock = clock
+        self.table = push_table(clock)
+        touches = [(entry, touch_phases(clock, entry[0], entry[2])) for entry in clock[4]]
+        self.needs = [(entry, phases) for entry, phases in touches if phases]
+
+    def numbers_from(self, tick, standing, firsts):
+        """Return a dict of the least numbers from the first ones on; None if there are none, or one is too late."""
+        numbers = settled_by(self.table, self.clock[0], firsts)
+        # The least numbers are at no exchange later than others: if they are too late, all are.
+        if numbers is None or self.is_late(tick, standing, numbers):
+            return None
+        return numbers
+
+    def is_late(self, tick, standing, numbers):
+        """Tell whether an exchange comes, at its number, later than an edition that stands needs it."""
+        for entry, phases in self.needs:
+            wheel, edition, other, least = entry
+            if standing[wheel] >= edition and standing[other] < least:
+                if numbers[(other, least)] > first_from(self.clock, phases, tick):
+                    return True
+        return False

@@ -29,14 +29,9 @@ def first_wrong(clock, plan):
     check_clock(clock)
     check_plan(clock, plan)
     # Ahead of the first exchange nothing is wrong: first editions need nothing.
-    moments = sorted(set([tick for ticks in plan for tick in ticks]))
-    for place, moment in enumerate(moments):
-        # Between two moments nothing is exchanged, so one round tells of all rounds.
-        end = moment + clock[0]
-        if place + 1 < len(moments):
-            end = min(end, moments[place + 1])
-        standing = standing_at(plan, moment)
-        for tick in range(moment, end):
+    for first, end in spells(clock, plan):
+        standing = standing_at(plan, first)
+        for tick in range(first, end):
             if unfit_at(clock, standing, tick):
                 return tick
     return None
@@ -95,6 +90,16 @@ def edition_of(ticks, tick):
 def standing_at(plan, tick):
     """Return the list of the editions that all wheels have at a tick."""
     return [edition_of(ticks, tick) for ticks in plan]
+
+
+def spells(clock, plan):
+    """Return the list of pairs: a tick at which something is exchanged, the end of the time to be looked at from it.
+
+    Up to that end nothing else is exchanged; one round is enough, for it tells of all rounds.
+    """
+    moments = sorted(set([tick for ticks in plan for tick in ticks]))
+    ends = moments[1:] + [moment + clock[0] for moment in moments[-1:]]
+    return [(moment, min(end, moment + clock[0])) for moment, end in zip(moments, ends)]
 
 
 def unfit_at(clock, standing, tick):

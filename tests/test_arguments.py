@@ -4,18 +4,22 @@ import copy
 import itertools
 
 from livingclock import (
-    charts, clocks, clocktexts, courses, earliest, joinings, lattices, mends, middle, plans, prices, pushes, rings,
-    stairs,
+    backs, charts, clocks, clocktexts, courses, crews, earliest, fleets, joinings, lattices, mends, middle, misses, odds,
+    plans, prices, pushes, rings, seen, sessions, stairs, tolls,
 )
 from livingclock.benches import Bench
+from livingclock.desks import Desk
 from livingclock.errors import (
-    BadChoice, BadClock, BadEdition, BadExchange, BadNumber, BadOrder, BadPhase, BadPlan, BadPrices, BadRow,
-    BadStanding, BadString, BadTick, BadWheel,
+    BadChoice, BadClock, BadDuty, BadEdition, BadExchange, BadNews, BadNumber, BadOrder, BadPhase, BadPlan, BadPrices,
+    BadRatio, BadRow, BadStanding, BadString, BadTick, BadTolls, BadWatch, BadWheel,
 )
 from tests.samples import JUNK, LONE, THREE, Case, nested
 
 PLAN = ((6,), (4,), (2,))
 PRICES = ((0,) * 7, (1,) * 7, (2,) * 7)
+TOLLS = ((0, 1), (2, 3), (4, 5))
+TEXT = "period 1\nwheel 0"
+SESSION = "| period 1\n| wheel 0"
 # Each function with right arguments and the error that each argument has for a value of another kind.
 CALLS = (
     (clocks.exchanges, (THREE,), (BadClock,)),
@@ -78,7 +82,45 @@ CALLS = (
     (mends.shows_fewest_gaps, (THREE, None), (BadClock, None)),
     (mends.fewest_entries, (THREE,), (BadClock,)),
     (mends.shows_fewest_entries, (THREE, None), (BadClock, None)),
+    (misses.sure, (THREE, 1, (0, 0, 1), 2), (BadClock, BadPhase, BadStanding, BadNumber)),
+    (misses.most_misses, (THREE, 1, (0, 0, 1)), (BadClock, BadPhase, BadStanding)),
+    (misses.deed_for, (THREE, 1, (0, 0, 1), 2), (BadClock, BadPhase, BadStanding, BadNumber)),
+    (tolls.toll, (THREE, TOLLS, (0, 0, 1)), (BadClock, BadTolls, BadStanding)),
+    (tolls.cheapest_course, (THREE, 4, (0, 0, 1), 3, TOLLS), (BadClock, BadTick, BadStanding, BadNumber, BadTolls)),
+    (tolls.least_toll, (THREE, 4, (0, 0, 1), 3, TOLLS), (BadClock, BadTick, BadStanding, BadNumber, BadTolls)),
+    (tolls.shows_cheapest_course, (THREE, 4, (0, 0, 1), 3, TOLLS, None),
+     (BadClock, BadTick, BadStanding, BadNumber, BadTolls, None)),
+    (odds.least_mean, (THREE, 1, (0, 0, 1), (1, 2)), (BadClock, BadPhase, BadStanding, BadRatio)),
+    (odds.best_deed, (THREE, 1, (0, 0, 1), (1, 2)), (BadClock, BadPhase, BadStanding, BadRatio)),
+    (odds.shows_best_deed, (THREE, 1, (0, 0, 1), (1, 2), None), (BadClock, BadPhase, BadStanding, BadRatio, None)),
+    (backs.mirror, (THREE,), (BadClock,)),
+    (backs.backwards, (THREE,), (BadClock,)),
+    (backs.led_on, (THREE, 4, (0, 0, 1), (0, 1, 1)), (BadClock, BadTick, BadStanding, BadStanding)),
+    (backs.led_back, (THREE, 4, (0, 1, 1), (0, 0, 1)), (BadClock, BadTick, BadStanding, BadStanding)),
+    (backs.both_ways, (THREE, 4), (BadClock, BadTick)),
+    (backs.no_return, (THREE, PLAN), (BadClock, BadPlan)),
+    (backs.longest_open, (THREE, 7), (BadClock, BadNumber)),
+    (fleets.fleet, (THREE, (1, 2, 2), True), (BadClock, BadNumber, BadChoice)),
+    (fleets.by_copies, (THREE, (1, 2, 2), True), (BadClock, BadNumber, BadChoice)),
+    (fleets.fleet_rounds, (THREE, (1, 2, 2), True), (BadClock, BadNumber, BadChoice)),
+    (fleets.alike, (THREE,), (BadClock,)),
+    (seen.news, (THREE, 7, PLAN, ((0, 0, 1),)), (BadClock, BadNumber, BadPlan, BadWatch)),
+    (seen.fitting, (THREE, 7, ((0, 0, 1, 0, 0),)), (BadClock, BadNumber, BadNews)),
+    (seen.count_fitting, (THREE, 7, ((0, 0, 1, 0, 0),)), (BadClock, BadNumber, BadNews)),
+    (seen.sure, (THREE, 7, ((0, 0, 1, 0, 0),), 5), (BadClock, BadNumber, BadNews, BadTick)),
+    (seen.fewest_watched, (THREE, 7, PLAN), (BadClock, BadNumber, BadPlan)),
+    (crews.served, ((THREE, LONE), (0, None, 1)), (BadNumber, BadDuty)),
+    (crews.served_by, ((THREE, LONE), (0, None, 1)), (BadNumber, BadDuty)),
+    (crews.best_duty, ((THREE, LONE),), (BadNumber,)),
+    (crews.least_phases, (THREE,), (BadClock,)),
+    (Desk().read, (TEXT,), (BadString,)),
+    (sessions.Session, (TEXT,), (BadString,)),
+    (sessions.Session(TEXT).say, ("tick",), (BadString,)),
+    (sessions.read_session, (SESSION,), (BadString,)),
+    (sessions.first_unlike, (SESSION,), (BadString,)),
 )
+# Calls that change the object whose method they are, or make one.
+CHANGING = ("exchange", "read", "say", "Bench", "Session")
 # Values that are of the wrong kind for every argument there is.
 NEVER = (None, "", "three", [], [0], {}, {0: 1}, (None,), ((), []), ("0", 1), 10 ** 40, -10 ** 40)
 FIELDS = {BadClock: {"part": "clock"}, BadPlan: {"wheel": None}}
@@ -98,10 +140,12 @@ class ArgumentsTest(Case):
                     given = arguments[:place] + (value,) + arguments[place + 1:]
                     if error is BadString and isinstance(value, str):
                         continue
-                    if error is None:
+                    # A tuple of one or two things is of the right number of clocks.
+                    told = BadClock if error is BadNumber and place == 0 and isinstance(value, tuple) else error
+                    if told is None:
                         self.assertIs(call(*given).__class__, bool)
                     else:
-                        self.fails(error, call, *given, **FIELDS.get(error, {}))
+                        self.fails(told, call, *given, **FIELDS.get(told, {}))
 
     def test_booleans_are_no_integers(self):
         for call, arguments, errors in CALLS:
@@ -138,7 +182,7 @@ class ArgumentsTest(Case):
 
     def test_equal_arguments_have_equal_answers(self):
         for call, arguments, _ in CALLS:
-            if call is not Bench and call.__name__ != "exchange":
+            if call.__name__ not in CHANGING:
                 self.assertEqual(call(*arguments), call(*copy.deepcopy(arguments)))
 
     def test_names_of_the_arguments(self):
@@ -172,3 +216,43 @@ class ArgumentsTest(Case):
         self.assertIs(prices.shows_cheapest(clock=LONE, before=1, prices=(), value=None), False)
         self.assertIs(mends.shows_fewest_gaps(clock=LONE, value=((), ())), True)
         self.assertIs(mends.shows_fewest_entries(clock=LONE, value=((), ())), True)
+        self.names_of_ways_and_chances()
+        self.names_of_fleets_and_news()
+
+    def names_of_ways_and_chances(self):
+        self.assertIs(misses.sure(clock=LONE, phase=0, standing=(0,), misses=0), True)
+        self.assertEqual(misses.most_misses(clock=LONE, phase=0, standing=(0,)), 12)
+        self.assertEqual(misses.deed_for(clock=LONE, phase=0, standing=(0,), misses=0), ())
+        self.assertEqual(tolls.toll(clock=LONE, tolls=((3,),), standing=(0,)), 3)
+        told = {"clock": LONE, "tick": 0, "standing": (0,), "hands": 0, "tolls": ((3,),)}
+        self.assertEqual(tolls.cheapest_course(**told), ())
+        self.assertEqual(tolls.least_toll(**told), 0)
+        self.assertIs(tolls.shows_cheapest_course(**told, value=()), True)
+        told = {"clock": LONE, "phase": 0, "standing": (0,), "chance": (1, 2)}
+        self.assertEqual(odds.least_mean(**told), (0, 1))
+        self.assertEqual(odds.best_deed(**told), ())
+        self.assertIs(odds.shows_best_deed(**told, value=()), True)
+        self.assertEqual([backs.mirror(clock=LONE), backs.backwards(clock=LONE)], [LONE, LONE])
+        told = {"clock": LONE, "tick": 0, "standing": (0,), "goal": (0,)}
+        self.assertEqual([backs.led_on(**told), backs.led_back(**told)], [((),), ((),)])
+        self.assertEqual(backs.both_ways(clock=LONE, tick=0), ((0,),))
+        self.assertIsNone(backs.no_return(clock=LONE, plan=((),)))
+        self.assertEqual(backs.longest_open(clock=LONE, before=1), (((),), None))
+
+    def names_of_fleets_and_news(self):
+        told = {"clock": LONE, "copies": (1,), "in_turn": False}
+        self.assertEqual([fleets.fleet(**told), fleets.by_copies(**told)], [LONE, (((),),)])
+        self.assertEqual([fleets.fleet_rounds(**told), fleets.alike(clock=LONE)], [0, ((0,),)])
+        self.assertEqual(seen.news(clock=LONE, before=1, plan=((),), watch=()), ())
+        told = {"clock": LONE, "before": 1, "news": ()}
+        self.assertEqual([seen.fitting(**told), seen.count_fitting(**told)], [(((),), ((),)), 1])
+        self.assertEqual(seen.sure(**told, tick=0), ((0, 0),))
+        self.assertEqual(seen.fewest_watched(clock=LONE, before=1, plan=((),)), ())
+        self.assertEqual(crews.served(clocks=(LONE,), duty=(0,)), (((),),))
+        self.assertEqual(crews.served_by(clocks=(LONE,), duty=(0,)), 0)
+        self.assertEqual([crews.best_duty(clocks=(LONE,)), crews.least_phases(clock=LONE)], [((0,), 0), ()])
+        desk = Desk()
+        self.assertIsNone(desk.read(text=TEXT))
+        self.assertEqual([desk.say(line="tick"), sessions.Session(text=TEXT).say(line="tick")], ["0", "0"])
+        self.assertEqual(sessions.read_session(text=SESSION), (LONE, ()))
+        self.assertIsNone(sessions.first_unlike(text=SESSION))

@@ -127,6 +127,16 @@ class LanguageTest(unittest.TestCase):
                 if isinstance(node, ast.Name) and node.id in builtins:
                     self.assertIn(node.id, BUILTINS, where)
 
+    def test_no_method_is_an_attribute(self):
+        methods, attributes = set(), set()
+        for _, _, tree in trees():
+            for part in ast.walk(tree):
+                if isinstance(part, ast.ClassDef):
+                    methods |= {node.name for node in part.body if isinstance(node, ast.FunctionDef)}
+                if isinstance(part, ast.Attribute) and isinstance(part.ctx, ast.Store):
+                    attributes.add(part.attr)
+        self.assertEqual(methods & attributes, set())
+
     def test_each_function_tells_what_it_does(self):
         for path, _, tree in trees():
             self.assertTrue(ast.get_docstring(tree), path)

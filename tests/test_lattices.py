@@ -9,7 +9,7 @@ from livingclock.errors import BadClock, BadNumber, BadPlan, TooMany
 from livingclock.lattices import Family, Lot, count_plans, latest, number_of, plan_at, plans, way
 from livingclock.plans import is_right, mixed
 from tests.samples import (
-    CHASE, LONE, PAIR, ROW, SKIPS, STILL, STUCK, THREE, Case, nowhere_later, plain_first_wrong, plain_plans, some_clock,
+    CHASE, LONE, PAIR, ROW, STILL, STUCK, THREE, Case, nowhere_later, plain_first_wrong, plain_plans, some_clock,
 )
 
 EXAMPLE = (2, (1, 1), ((0, 0, 1),), ((0, 1), (1,)), ((0, 1, 1, 1),))

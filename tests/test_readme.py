@@ -11,7 +11,7 @@ class ReadmeTest(unittest.TestCase):
 
     def test_example(self):
         blocks = [part.split("```")[0] for part in README.read_text(encoding="utf-8").split("```python\n")[1:]]
-        self.assertEqual(len(blocks), 2)
+        self.assertEqual(len(blocks), 4)
         names = {}
         told = 0
         for line in "".join(blocks).splitlines():
@@ -21,4 +21,4 @@ class ReadmeTest(unittest.TestCase):
                 told += 1
             else:
                 exec(code, names)
-        self.assertEqual(told, 19)
+        self.assertEqual(told, 34)
