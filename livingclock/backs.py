@@ -6,7 +6,7 @@ from livingclock.courses import entries_at, is_fit, standings_between
 from livingclock.errors import BadPlan, BadStanding, TooMany
 from livingclock.lattices import check_before, plans
 from livingclock.middle import Rests, check_moment, check_standing, firsts_from, rest_beside
-from livingclock.plans import check_plan, is_right, spells, standing_at
+from livingclock.plans import is_right, spells, standing_at
 
 MOST_STANDINGS = 1000
 
@@ -63,8 +63,6 @@ def both_ways(clock, tick):
 
 def no_return(clock, plan):
     """Return the first tick from which there is no way back to all first editions, None if there is no such tick."""
-    check_clock(clock)
-    check_plan(clock, plan)
     if not is_right(clock, plan):
         raise BadPlan(None)
     return first_without(clock, Ways(mirror_of(clock)), plan)
@@ -109,9 +107,9 @@ def way_on(clock, tick, standing, goal):
     """Return what led_on does, for arguments that are known to be right."""
     if not all([is_fit(entries_at(clock, phase), goal) for phase in range(clock[0])]):
         return None
-    # To come to the goal is to come to the last editions of a clock that has no later ones.
-    book = tuple(entry for entry in clock[4] if entry[1] <= goal[entry[0]] and entry[3] <= goal[entry[2]])
-    return rest_beside((clock[0], goal, clock[2], clock[3], book), tick, standing, ())
+    # To come to the goal is to come to the last editions of a clock that has no later ones; as the goal fits, what the
+    # book tells of later ones says nothing of wheels that touch.
+    return rest_beside((clock[0], goal) + clock[2:], tick, standing, ())
 
 
 def way_back(clock, tick, standing, goal):

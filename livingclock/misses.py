@@ -130,8 +130,6 @@ class Trial:
 
     def deed_at(self, phase, misses):
         """Return a deed for the first standing at a phase, so many misses being left, with which it is sure."""
-        if self.first == self.clock[1]:
-            return ()
         stay = self.borne_behind(phase, self.first)
         for deed, many in self.bearing(phase, self.first):
             if min(many, stay + len(deed)) >= misses:

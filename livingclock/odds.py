@@ -4,7 +4,7 @@ from math import gcd
 
 from livingclock.checks import is_tuple_of, is_whole
 from livingclock.courses import (
-    MOST_HANDS, check_many, entries_at, is_deed, is_fit, shortest_course, standings_between, tries_at,
+    MOST_HANDS, check_many, entries_at, is_deed, is_fit, shortest_course, standings_between,
 )
 from livingclock.errors import BadRatio, NotSure
 from livingclock.middle import raised, rest_beside
@@ -18,8 +18,6 @@ def least_mean(clock, phase, standing, chance):
     check_place(clock, phase, standing)
     check_chance(chance)
     check_many(clock, MOST_PAIRS)
-    if not is_certain(clock, phase, standing, chance):
-        return None
     return Means(clock, chance, standing).mean_at(phase, standing)
 
 
@@ -28,8 +26,9 @@ def best_deed(clock, phase, standing, chance):
     means = sure_means(clock, phase, standing, chance)
     if standing == clock[1]:
         return ()
-    deeds = [deed for deed, _ in tries_at(clock, phase, standing, len(standing))]
-    return [deed for deed in deeds if means.is_best(phase, standing, deed)][0]
+    if chance[0] == 0:
+        return shortest_course(clock, phase, standing, MOST_HANDS)[0]
+    return means.greatest_deed(phase, standing)
 
 
 def shows_best_deed(clock, phase, standing, chance, value):
@@ -96,39 +95,33 @@ class Means:
 
     def fill(self, standing):
         """Find the least means with a standing, when they are known for all greater ones."""
-        period = self.clock[0]
         if not all([is_fit(entries, standing) for entries in self.entries]):
             return
-        lines = [self.lines_at(phase, standing) for phase in range(period)]
-        picks = [choices[0] for choices in lines]
-        if all([is_waiting(line) for line in picks]):
+        deeds = [self.greatest_deed(phase, standing) for phase in range(self.clock[0])]
+        if not any(deeds):
             return
-        means = means_of(picks)
-        better = [best_of(lines[phase], picks[phase], means[(phase + 1) % period]) for phase in range(period)]
-        while better != picks:
-            picks = better
-            means = means_of(picks)
-            better = [best_of(lines[phase], picks[phase], means[(phase + 1) % period]) for phase in range(period)]
-        for phase in range(period):
-            self.known[(phase, standing)] = means[phase]
+        lines = [self.line_of(phase, standing, deed) for phase, deed in enumerate(deeds)]
+        for phase, mean in enumerate(means_of(lines)):
+            self.known[(phase, standing)] = mean
 
-    def lines_at(self, phase, standing):
-        """Return the list of the lines of all deeds that can be tried, that of waiting being the last one.
+    def greatest_deed(self, phase, standing):
+        """Return the deed of all wheels each of which can be tried by itself so that the end stays sure.
 
-        A line is a pair: the mean without what comes if all wheels miss, the chance that all miss.
+        It is a best one, and it is sure itself: what is done besides never keeps anything else from being done.
         """
-        lines = []
-        for deed, _ in tries_at(self.clock, phase, standing, len(standing))[1:]:
-            outcomes = self.outcomes(standing, deed)
-            mean = self.mean_behind(phase, outcomes[1:])
-            if mean is not None:
-                lines.append((mean, outcomes[0][0]))
-        return lines + [(whole(1), whole(1))]
+        wheels = [wheel for wheel, phases in enumerate(self.clock[3]) if phase in phases]
+        able = [wheel for wheel in wheels if standing[wheel] < self.clock[1][wheel]]
+        return tuple([wheel for wheel in able if (phase, raised(standing, wheel)) in self.known])
+
+    def line_of(self, phase, standing, deed):
+        """Return the pair of the mean that a deed has without what comes if all miss, and the chance that all miss."""
+        outcomes = self.outcomes(standing, deed)
+        return (self.mean_behind(phase, outcomes[1:]), outcomes[0][0])
 
     def outcomes(self, standing, deed):
         """Return the list of pairs: a chance above 0, the standing to which a deed then leads, if all miss first."""
         found = [(whole(1), standing)]
-        hit = minus(whole(1), self.chance)
+        hit = one_less(self.chance)
         for wheel in deed:
             missed = [(multiplied(odds, self.chance), after) for odds, after in found if self.chance[0] > 0]
             found = missed + [(multiplied(odds, hit), raised(after, wheel)) for odds, after in found]
@@ -153,39 +146,19 @@ class Means:
 
     def is_best(self, phase, standing, deed):
         """Tell whether a way of least mean may begin with a deed."""
-        mean = self.mean_behind(phase, self.outcomes(standing, deed))
-        return mean is not None and mean == self.mean_at(phase, standing)
+        return self.mean_behind(phase, self.outcomes(standing, deed)) == self.mean_at(phase, standing)
 
 
-def is_waiting(line):
-    """Tell whether a line is that of waiting."""
-    return line[1] == (1, 1)
-
-
-def means_of(picks):
-    """Return the list of the means at all phases of a round if at each phase one line is taken."""
+def means_of(lines):
+    """Return the list of the means at all phases of a round, lines being those of the deeds that are tried."""
     sure, odds = whole(0), whole(1)
-    for mean, all_miss in picks[::-1]:
+    for mean, all_miss in lines[::-1]:
         sure = added(mean, multiplied(all_miss, sure))
         odds = multiplied(all_miss, odds)
-    means = [divided(sure, minus(whole(1), odds))]
-    for mean, all_miss in picks[:0:-1]:
+    means = [divided(sure, one_less(odds))]
+    for mean, all_miss in lines[:0:-1]:
         means.append(added(mean, multiplied(all_miss, means[-1])))
     return means[:1] + means[:0:-1]
-
-
-def best_of(lines, pick, behind):
-    """Return the line of least mean, a mean being behind it if all miss; the one that is picked if none is better."""
-    best = pick
-    for line in lines:
-        if is_less(mean_by(line, behind), mean_by(best, behind)):
-            best = line
-    return best
-
-
-def mean_by(line, behind):
-    """Return the mean of a line, a mean being behind it if all miss."""
-    return added(line[0], multiplied(line[1], behind))
 
 
 def whole(number):
@@ -199,14 +172,14 @@ def lowest(numerator, denominator):
     return (numerator // common, denominator // common)
 
 
+def one_less(ratio):
+    """Return 1 less a ratio."""
+    return (ratio[1] - ratio[0], ratio[1])
+
+
 def added(one, other):
     """Return the sum of two ratios."""
     return lowest(one[0] * other[1] + other[0] * one[1], one[1] * other[1])
-
-
-def minus(one, other):
-    """Return a ratio less another one."""
-    return lowest(one[0] * other[1] - other[0] * one[1], one[1] * other[1])
 
 
 def multiplied(one, other):
@@ -217,8 +190,3 @@ def multiplied(one, other):
 def divided(one, other):
     """Return a ratio divided by a positive one."""
     return lowest(one[0] * other[1], one[1] * other[0])
-
-
-def is_less(one, other):
-    """Tell whether a ratio is less than another one."""
-    return one[0] * other[1] < other[0] * one[1]

@@ -122,7 +122,8 @@ def soonest(clock, told):
     least = {}
     for wheel, tick, edition in sights(told):
         if edition < clock[1][wheel]:
-            least[(wheel, edition + 1)] = max(least.get((wheel, edition + 1), 0), tick + 1)
+            # News are ascending: of those that tell of an exchange the last one tells most.
+            least[(wheel, edition + 1)] = tick + 1
     return least
 
 
@@ -131,7 +132,7 @@ def latest_by(told):
     most = {}
     for wheel, tick, edition in sights(told):
         if edition > 0:
-            most[(wheel, edition)] = min(most.get((wheel, edition), tick), tick)
+            most.setdefault((wheel, edition), tick)
     return most
 
 

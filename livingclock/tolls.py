@@ -43,8 +43,8 @@ def shows_cheapest_course(clock, tick, standing, hands, tolls, value):
     """Tell whether a value is None where there is no course, or a cheapest course of at most 400 deeds."""
     check_trip(clock, tick, standing, hands, tolls)
     least = Fares(clock, hands, tolls, standing).least_from(tick, standing)
-    if least is None or value is None:
-        return least == value
+    if value is None:
+        return least is None
     if not is_course(clock, tick, standing, hands, value) or len(value) > MOST_SHOWN:
         return False
     # A course that goes on when all have their last editions ends with a deed of no wheels.
