@@ -3,9 +3,7 @@
 from math import gcd
 
 from livingclock.checks import is_tuple_of, is_whole
-from livingclock.courses import (
-    MOST_HANDS, check_many, entries_at, is_deed, is_fit, shortest_course, standings_between,
-)
+from livingclock.courses import MOST_HANDS, check_many, entries_at, is_deed, is_fit, shortest_course, standings_between
 from livingclock.errors import BadRatio, NotSure
 from livingclock.middle import raised, rest_beside
 from livingclock.misses import check_place
@@ -119,7 +117,10 @@ class Means:
         return (self.mean_behind(phase, outcomes[1:]), outcomes[0][0])
 
     def outcomes(self, standing, deed):
-        """Return the list of pairs: a chance above 0, the standing to which a deed then leads, if all miss first."""
+        """Return the list of pairs: a chance above 0, the standing to which a deed then leads.
+
+        If wheels can miss, the first pair is that of all of them missing.
+        """
         found = [(whole(1), standing)]
         hit = one_less(self.chance)
         for wheel in deed:
